@@ -1,0 +1,1 @@
+"""Captionhouse: captions, from spoken words to what a late viewer sees."""

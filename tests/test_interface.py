@@ -1,0 +1,53 @@
+"""[1]: the names of the interface, their arguments, and where they are defined."""
+
+import importlib
+import inspect
+import unittest
+from pathlib import Path
+
+INTERFACE = {
+    "lines": ("need_words(thing)", "fits(words, size)", "best(words, size)", "lines_of(words, breaking)",
+              "many_breakings(words, size)", "breakings(words, size)", "breaking_at(words, size, number)",
+              "number_of(words, size, breaking)"),
+    "plans": ("need_spoken(thing)", "need_rules(thing)", "is_plan(spoken, rules, thing)", "least_ends(spoken, rules)",
+              "plan(spoken, rules)", "plan_paper(spoken, rules)", "check_plan(spoken, rules, paper)",
+              "least_late(spoken, rules)", "plan_file(spoken, rules, thing)"),
+}
+CLASSES = {
+    "errors": ("BadWords(number)", "BadSpoken(number)", "BadRules(number)", "BadFile(number)", "BadCuts(number)",
+               "BadChain(number)", "BadSize(value)", "BadPaper(part)", "BadText(line)", "OutOfPlace(text)",
+               "TooGreat(most)", "Nothing(text)", "BadCode(place)", "BadCues(number)"),
+}
+PACKAGE = Path(__file__).resolve().parent.parent / "captionhouse"
+
+
+class Interface(unittest.TestCase):
+    def look(self, module, told, isclass):
+        name = told.partition("(")[0]
+        thing = getattr(importlib.import_module("captionhouse." + module), name)
+        self.assertEqual(name + str(inspect.signature(thing)), told)
+        self.assertEqual(thing.__module__, "captionhouse." + module)
+        self.assertEqual(inspect.isclass(thing), isclass)
+
+    def test_functions(self):
+        for module, functions in INTERFACE.items():
+            for told in functions:
+                self.look(module, told, False)
+
+    def test_classes(self):
+        for module, classes in CLASSES.items():
+            for told in classes:
+                self.look(module, told, True)
+
+    def test_the_files_are_as_long_and_wide_as_they_may_be(self):
+        for path in PACKAGE.glob("*.py"):
+            text = path.read_text(encoding="ascii")
+            self.assertLess(len(text.splitlines()), 400, path.name)
+            self.assertLessEqual(max((len(line) for line in text.splitlines()), default=0), 120, path.name)
+            self.assertNotIn("\t", text)
+        self.assertEqual([path.name for path in PACKAGE.iterdir() if path.suffix != ".py"
+                          and path.name != "__pycache__"], [])
+
+
+if __name__ == "__main__":
+    unittest.main()
