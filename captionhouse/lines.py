@@ -112,7 +112,10 @@ def need_size(size):
 
 
 def line_ends(words, first, columns):
-    """The numbers of the words behind each line that begins with the word first, ascending."""
+    """The numbers of the words behind each line that begins with the word first, ascending.
+
+    No line ends with a word that HOLDS, not even the last one.
+    """
     ends = []
     width = -1
     for behind in range(first + 1, len(words) + 1):

@@ -10,10 +10,13 @@ from captionhouse.lines import can_stand
 
 
 def span_of(spoken, rules, first, behind):
-    """The span of the words from number first up to behind; None if they can be no cue."""
+    """The span of the words from number first up to behind; None if they can be no cue.
+
+    Words whose last one HOLDS cannot stand, since no line ends with it.
+    """
     rows, columns, least, most, _, letters, frames, early, _ = rules
     words = spoken[first:behind]
-    if words[-1][1] == 1 or not can_stand(words, rows, columns):
+    if not can_stand(words, rows, columns):
         return None
     time = max(least, -(-frames * signs_of(words) // letters))
     if time > most:

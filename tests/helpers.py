@@ -4,6 +4,16 @@ import unittest
 
 from captionhouse.errors import BadPaper, BadRules, BadSpoken, OutOfPlace
 
+class Equal:
+    """Something that says it is equal to all things."""
+
+    def __eq__(self, other):
+        return True
+
+    def __hash__(self):
+        return hash("plan")
+
+
 # Values of many kinds, none of them a tuple of as many things as is asked for anywhere.
 ODD_THINGS = (None, True, False, 0, 1, -1, 10 ** 999, 1.5, "", "plan", b"plan", [], [()], {}, {1: 2}, {1}, object(),
               ValueError, (None,) * 7, ((),) * 7, range(3))

@@ -12,6 +12,14 @@ INTERFACE = {
     "plans": ("need_spoken(thing)", "need_rules(thing)", "is_plan(spoken, rules, thing)", "least_ends(spoken, rules)",
               "plan(spoken, rules)", "plan_paper(spoken, rules)", "check_plan(spoken, rules, paper)",
               "least_late(spoken, rules)", "plan_file(spoken, rules, thing)"),
+    "counts": ("are_possible(spoken, rules, counts)", "earliest(spoken, rules, counts)",
+               "latest(spoken, rules, counts)", "bar(spoken, rules, counts)",
+               "check_bar(spoken, rules, counts, thing)", "late_of(spoken, rules, counts)"),
+    "fewest": ("fewest_cues(spoken, rules)", "fewest_paper(spoken, rules)", "check_fewest(spoken, rules, paper)",
+               "many_cuts(spoken, rules)"),
+    "files": ("need_file(thing)", "seen(file, frame)", "flat(file)", "is_flat(thing)", "alike(one, other)",
+              "apart(one, other)", "laid(upper, lower)"),
+    "strokes": ("fewest(file)", "fewest_file(file)", "strokes_paper(file)", "check_strokes(file, paper)"),
 }
 CLASSES = {
     "errors": ("BadWords(number)", "BadSpoken(number)", "BadRules(number)", "BadFile(number)", "BadCuts(number)",

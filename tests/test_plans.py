@@ -8,7 +8,7 @@ from captionhouse.plans import (check_plan, is_plan, least_ends, least_late, nee
                                 plan_paper)
 from tests.brute import (bounds_hold_by_hand, breakings_by_hand, chance_of, counts_of, least_end_of, least_ends_by_hand,
                          plan_holds, rows_of_bounds, some_rules, some_spoken)
-from tests.helpers import ODD_THINGS, Case
+from tests.helpers import ODD_THINGS, Case, Equal
 
 SPOKEN = (("ab", 0, 10, 12), ("cd", 1, 12, 15), ("e", 0, 15, 18), ("fgh", 0, 30, 33))
 RULES = (2, 6, 5, 20, 2, 2, 3, 4, 3)
@@ -253,7 +253,7 @@ class CheckPlan(Case):
     def test_no_paper(self):
         plan_told = ("plan", PLAN)
         things = [list(plan_told), ("plan",), plan_told + (1,), ("plans", PLAN), ("", PLAN), (None, PLAN), (0, PLAN),
-                  (("plan",), PLAN), (["plan"], PLAN), (b"plan", PLAN), PLAN, (True, PLAN)]
+                  (("plan",), PLAN), (["plan"], PLAN), (b"plan", PLAN), PLAN, (True, PLAN), (Equal(), PLAN)]
         for thing in things + list(ODD_THINGS):
             self.bad_paper("form", check_plan, SPOKEN, RULES, thing)
         self.assertEqual(check_plan(spoken=SPOKEN, rules=RULES, paper=plan_told), "plan")
