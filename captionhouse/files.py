@@ -93,11 +93,19 @@ def flattened(layers):
     for start, end in zip(bounds, bounds[1:]):
         text = _text_of_layers(layers, start)
         if text is not None:
-            if cues and cues[-1][1:] == (start, text):
-                cues[-1] = (cues[-1][0], end, text)
-            else:
-                cues.append((start, end, text))
-    return tuple(cues)
+            cues.append((start, end, text))
+    return joined_cues(cues)
+
+
+def joined_cues(cues):
+    """The FLAT cues of such as stand one behind the other: those that touch with the same TEXT are one."""
+    found = []
+    for start, end, text in cues:
+        if found and found[-1][1:] == (start, text):
+            found[-1] = (found[-1][0], end, text)
+        else:
+            found.append((start, end, text))
+    return tuple(found)
 
 
 def _text_of_layers(layers, frame):

@@ -20,6 +20,14 @@ INTERFACE = {
     "files": ("need_file(thing)", "seen(file, frame)", "flat(file)", "is_flat(thing)", "alike(one, other)",
               "apart(one, other)", "laid(upper, lower)"),
     "strokes": ("fewest(file)", "fewest_file(file)", "strokes_paper(file)", "check_strokes(file, paper)"),
+    "cuts": ("need_cuts(thing)", "length(cuts)", "source(cuts, frame)", "plain(cuts)", "alike_cuts(one, other)",
+             "behind(first, second)", "carried(cuts, file)", "twice(cuts)", "lost(cuts, end)",
+             "bringing(cuts, wanted)", "check_bringing(cuts, wanted, paper)", "bringing_paper(cuts, wanted)"),
+    "mending": ("mended(file, end, least, gap)", "mending_paper(file, end, least, gap)",
+                "check_mending(file, end, least, gap, paper)"),
+    "rates": ("need_chain(thing)", "moved(chain, frame)", "slope(chain)", "period(chain)",
+              "alike_chains(one, other)", "apart_chains(one, other)", "comes_back(chain)", "least_kept(chain)",
+              "moved_file(chain, file)"),
 }
 CLASSES = {
     "errors": ("BadWords(number)", "BadSpoken(number)", "BadRules(number)", "BadFile(number)", "BadCuts(number)",
