@@ -3,6 +3,9 @@
 MOST_SIGNS = 40
 TILDE = 126
 PERCENT = 37
+# No number that is read has more than a frame up to 10 ** 12.
+MOST_FIGURES = 13
+FIGURES = "0123456789"
 
 
 def is_integer(thing):
@@ -42,3 +45,12 @@ def are_counts(thing, total):
     if not isinstance(thing, tuple):
         return False
     return all([is_integer(count) and count >= 1 for count in thing]) and sum(thing) == total
+
+
+def number_in(word):
+    """The number that a word tells in decimal, without a 0 ahead; None if it tells none that may be."""
+    if not 1 <= len(word) <= MOST_FIGURES or not all([sign in FIGURES for sign in word]):
+        return None
+    if word[0] == "0" and len(word) > 1:
+        return None
+    return int(word)

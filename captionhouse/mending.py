@@ -31,7 +31,8 @@ def mending_paper(file, end, least, gap):
         return ("mended", found)
     bars = [(low, high) for high in range(len(file) + 1) for low in range(high + 1)
             if _is_bar(file, end, (least, gap), low, high)]
-    return ("bar", *bars[0])
+    low, high = bars[0]
+    return ("bar", low, high)
 
 
 def check_mending(file, end, least, gap, paper):

@@ -28,6 +28,15 @@ INTERFACE = {
     "rates": ("need_chain(thing)", "moved(chain, frame)", "slope(chain)", "period(chain)",
               "alike_chains(one, other)", "apart_chains(one, other)", "comes_back(chain)", "least_kept(chain)",
               "moved_file(chain, file)"),
+    "texts": ("file_text(file)", "cuts_text(cuts)", "read_file(string)", "read_cuts(string)"),
+    "decoders": ("need_screen(screen)", "blank(screen)", "is_code(screen, value)", "is_memory(screen, value)",
+                 "is_state(screen, value)", "first_state(screen)", "step(screen, state, code)",
+                 "led(screen, state, codes)", "pictures(screen, codes)"),
+    "summaries": ("controls(screen)", "summary(screen, codes)", "is_summary(screen, value)",
+                  "joined(screen, one, other)", "led_by(screen, summary, state)", "do_alike(screen, one, other)",
+                  "apart(screen, one, other)"),
+    "tuning": ("sure(screen, codes)", "settled(screen, head, ring, begin)",
+               "settle_paper(screen, head, ring, begin)", "check_settle(screen, head, ring, begin, paper)"),
 }
 CLASSES = {
     "errors": ("BadWords(number)", "BadSpoken(number)", "BadRules(number)", "BadFile(number)", "BadCuts(number)",

@@ -27,7 +27,8 @@ class NeedChain(Case):
         self.refused(BadChain, "number", number, need_chain, thing)
 
     def test_it_gives_the_very_thing(self):
-        for chain in ((), ((1, 1, "down"),), ((2000, 2000, "up"),), ((1, 1, "near"),) * 4, ((1, 2000, "up"), (1, 50, "up")),
+        for chain in ((), ((1, 1, "down"),), ((2000, 2000, "up"),), ((1, 1, "near"),) * 4,
+                      ((1, 2000, "up"), (1, 50, "up")),
                       *GREAT_CHAINS):
             self.assertIs(need_chain(chain), chain)
             self.assertIs(need_chain(thing=chain), chain)
@@ -40,7 +41,8 @@ class NeedChain(Case):
     def test_wrong_steps_have_their_numbers(self):
         wrong = [None, 3, "abc", (1, 1), (1, 1, "up", 1), [1, 1, "up"], (), (0, 1, "up"), (1, 0, "up"), (-1, 1, "up"),
                  (1, -1, "up"), (2001, 1, "up"), (1, 2001, "up"), (True, 1, "up"), (1, True, "up"), (1.0, 1, "up"),
-                 (1, 1.0, "up"), ("1", 1, "up"), (None, 1, "up"), (1, None, "up"), (1, 1, "UP"), (1, 1, ""), (1, 1, None),
+                 (1, 1.0, "up"), ("1", 1, "up"), (None, 1, "up"), (1, None, "up"), (1, 1, "UP"), (1, 1, ""),
+                 (1, 1, None),
                  (1, 1, "u"), (1, 1, "nearest"), (1, 1, b"up"), (1, 1, ("up",)), (1, 1, ["up"]), (1, 1, Equal()),
                  (10 ** 999, 1, "up"), (1, 10 ** 999, "up"), (Equal(), 1, "up")]
         for thing in wrong:
@@ -291,7 +293,8 @@ class Refusals(Case):
         for call in (alike_chains, apart_chains):
             self.refused(BadChain, "number", 1, call, (), self.wrong)
             # Ahead of what would be too great.
-            self.refused(BadChain, "number", 2, call, ((1, 2000, "up"), (1, 50, "up")), ((1, 3, "up"), (1, 3, "up"), None))
+            self.refused(BadChain, "number", 2, call, ((1, 2000, "up"), (1, 50, "up")),
+                         ((1, 3, "up"), (1, 3, "up"), None))
         self.refused(BadFile, "number", 0, moved_file, (), ((1, 1, A),))
         self.refused(BadFile, "number", 1, moved_file, ((2, 1, "up"),), ((0, GREAT, A), (1, 1, A)))
         self.refused(BadFile, "number", None, moved_file, (), None)
