@@ -233,6 +233,10 @@ class Papers(Case):
                       ("settles", 5, 5, 5), ("settles", 5, 4, 7), ("settles", 5, 2, 8), ("settles", 5, 3, 6),
                       ("settles", 10 ** 999, 5, 8), ("settles", -10 ** 999, 5, 8), ("settles", 1, 2, 5)):
             self.bad("settles", *paper)
+        # 0 stands for I and for J as well, though J cannot be as told.
+        for word in ("settles", "never"):
+            self.bad(word, word, 0, 0, 0)
+            self.bad(word, word, 5, 9999, 0)
         self.bad("never", "never", 5, 5, 8)
         self.bad("never", "never", 4, 5, 8)
 
