@@ -28,6 +28,16 @@ def is_one_of(thing, words):
     return isinstance(thing, str) and thing in words
 
 
+def is_word_and_tuple(thing, words):
+    """Whether thing is a pair of one of these words and a tuple."""
+    return is_tuple(thing, 2, 2) and is_one_of(thing[0], words) and isinstance(thing[1], tuple)
+
+
+def ascends(things):
+    """Whether each of some things is greater than the one ahead."""
+    return all([ahead < thing for ahead, thing in zip(things, things[1:])])
+
+
 def is_sign(sign, lowest):
     """Whether a character stands from the code lowest to the tilde, and is no percent sign."""
     return lowest <= ord(sign) <= TILDE and ord(sign) != PERCENT

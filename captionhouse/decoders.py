@@ -41,9 +41,7 @@ def is_memory(screen, value):
 def is_state(screen, value):
     """Whether any value is a STATE."""
     need_screen(screen)
-    if not is_tuple(value, 5, 5) or not is_control(screen, value[:3]):
-        return False
-    return is_memory_of(screen, value[3]) and is_memory_of(screen, value[4])
+    return is_state_of(screen, value)
 
 
 def first_state(screen):
@@ -56,8 +54,7 @@ def step(screen, state, code):
     """The STATE behind a CODE."""
     need_state(screen, state)
     need_code(screen, code)
-    control, cells = stepped(screen, state[:3], cells_of(state), code)
-    return state_of(screen, control, cells)
+    return state_behind(screen, state, code)
 
 
 def led(screen, state, codes):
@@ -84,6 +81,12 @@ def pictures(screen, codes):
     return tuple(found)
 
 
+def state_behind(screen, state, code):
+    """The STATE behind a CODE, all of them being such."""
+    control, cells = stepped(screen, state[:3], cells_of(state), code)
+    return state_of(screen, control, cells)
+
+
 def need_state(screen, state):
     """Refuses what is no SCREEN, then what is no STATE of it."""
     if not is_state(screen, state):
@@ -105,6 +108,11 @@ def need_codes(screen, codes, least=0, most=MOST_CODES):
             raise BadCode(number)
 
 
+def are_codes(screen, value, least=0, most=MOST_CODES):
+    """Whether any value is a STREAM of so many CODES, the SCREEN being one."""
+    return is_tuple(value, least, most) and all([is_code_of(screen, code) for code in value])
+
+
 def is_code_of(screen, value):
     """Whether any value is a CODE, the SCREEN being one."""
     rows, columns = screen
@@ -116,6 +124,13 @@ def is_code_of(screen, value):
     if len(value) == 2:
         return word == "put" and is_cell_sign(value[1]) or word == "roll" and is_within(value[1], 1, rows)
     return word == "at" and is_within(value[1], 0, rows - 1) and is_within(value[2], 0, columns - 1)
+
+
+def is_state_of(screen, value):
+    """Whether any value is a STATE, the SCREEN being one."""
+    if not is_tuple(value, 5, 5) or not is_control(screen, value[:3]):
+        return False
+    return is_memory_of(screen, value[3]) and is_memory_of(screen, value[4])
 
 
 def is_memory_of(screen, value):
