@@ -67,7 +67,12 @@ def is_cue(thing):
     """Whether thing can be a cue of a FILE."""
     if not is_tuple(thing, 3, 3) or not is_within(thing[0], 0, MOST_FRAME):
         return False
-    return is_within(thing[1], thing[0] + 1, MOST_FRAME) and _is_text(thing[2])
+    return is_within(thing[1], thing[0] + 1, MOST_FRAME) and is_text(thing[2])
+
+
+def is_text(thing):
+    """Whether thing is a TEXT."""
+    return is_tuple(thing, 1, MOST_LINES) and all([_is_line(line) for line in thing])
 
 
 def is_file(thing):
@@ -124,10 +129,6 @@ def _bounds_of(layers):
 def _may_follow(ahead, cue):
     """Whether a cue may stand behind another one in what is FLAT."""
     return cue[0] > ahead[1] or (cue[0] == ahead[1] and cue[2] != ahead[2])
-
-
-def _is_text(thing):
-    return is_tuple(thing, 1, MOST_LINES) and all([_is_line(line) for line in thing])
 
 
 def _is_line(thing):

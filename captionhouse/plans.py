@@ -17,7 +17,7 @@ def need_spoken(thing):
         raise BadSpoken(None)
     begin = 0
     for number, word in enumerate(thing):
-        if not _is_spoken_word(word) or word[2] < begin:
+        if not is_spoken_word(word) or word[2] < begin:
             raise BadSpoken(number)
         begin = word[2]
     if thing[-1][1] == 1:
@@ -127,17 +127,18 @@ def plan_file(spoken, rules, thing):
     return tuple(cues)
 
 
+def is_spoken_word(thing):
+    """Whether thing can be a word of SPOKEN, by itself; it may HOLD."""
+    if not (is_tuple(thing, 4, 4) and is_word(thing[0]) and is_hold(thing[1])):
+        return False
+    return is_within(thing[2], 0, MOST_FRAME) and is_within(thing[3], thing[2], MOST_FRAME)
+
+
 def are_bounds(thing, many):
     """Whether thing has the form of BOUNDS of so many words, with None for all of them."""
     if not is_tuple(thing, many, many):
         return False
     return all([bound is None or is_integer(bound) for bound in thing]) and thing[-1] is None
-
-
-def _is_spoken_word(thing):
-    if not (is_tuple(thing, 4, 4) and is_word(thing[0]) and is_hold(thing[1])):
-        return False
-    return is_within(thing[2], 0, MOST_FRAME) and is_within(thing[3], thing[2], MOST_FRAME)
 
 
 def _has_form_of_plan(thing, many):

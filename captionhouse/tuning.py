@@ -14,10 +14,7 @@ def sure(screen, codes):
     """The signs of the cells of SHOWN that are SURE behind a STREAM, rows of them, None for each other one."""
     need_small_screen(screen)
     need_codes(screen, codes)
-    rows, columns = screen
-    threads = threads_behind(screen, codes)
-    cells = [_sure_sign(threads, cell) for cell in range(rows * columns)]
-    return tuple([tuple(cells[row * columns:(row + 1) * columns]) for row in range(rows)])
+    return sure_rows(screen, codes)
 
 
 def settled(screen, head, ring, begin):
@@ -53,6 +50,14 @@ def check_settle(screen, head, ring, begin, paper):
     if rounds[0] != rounds[1] or not _is_told(word, many, low, flags):
         raise BadPaper(word)
     return word
+
+
+def sure_rows(screen, codes):
+    """What sure tells, of a small SCREEN and a STREAM of it."""
+    rows, columns = screen
+    threads = threads_behind(screen, codes)
+    cells = [_sure_sign(threads, cell) for cell in range(rows * columns)]
+    return tuple([tuple(cells[row * columns:(row + 1) * columns]) for row in range(rows)])
 
 
 def is_all_sure(screen, threads):

@@ -37,12 +37,31 @@ INTERFACE = {
                   "apart(screen, one, other)"),
     "tuning": ("sure(screen, codes)", "settled(screen, head, ring, begin)",
                "settle_paper(screen, head, ring, begin)", "check_settle(screen, head, ring, begin, paper)"),
+    "waking": ("knowledge(screen, codes)", "later(screen, value, code)", "waking(screen, choice)",
+               "waking_paper(screen, choice)", "check_waking(screen, choice, paper)"),
+    "zaps": ("good(screen, channels)", "zapped(screen, channels, zap)", "zap_paper(screen, channels)",
+             "check_zap(screen, channels, paper)"),
+    "losses": ("fair(screen, codes)", "loss_paper(screen, codes, most)", "check_loss(screen, codes, most, paper)",
+               "least_loss(screen, codes)"),
+    "sending": ("load(screen, text)", "picture_of(screen, text)", "text_of(screen, picture)",
+                "send_paper(screen, cues)", "check_send(screen, cues, paper)", "put_off(screen, cues)",
+                "shows(screen, codes)"),
+    "receivers": ("under(receiver, deed)",),
+    "tapes": ("stream_text(screen, codes)", "read_stream(screen, string)"),
 }
 CLASSES = {
     "errors": ("BadWords(number)", "BadSpoken(number)", "BadRules(number)", "BadFile(number)", "BadCuts(number)",
                "BadChain(number)", "BadSize(value)", "BadPaper(part)", "BadText(line)", "OutOfPlace(text)",
                "TooGreat(most)", "Nothing(text)", "BadCode(place)", "BadCues(number)"),
+    "receivers": ("Receiver(screen, *, begin=None)",),
+    "desk": ("Desk()",),
 }
+METHODS = {
+    "Receiver": ("__call__(self, code)", "__len__(self)", "__contains__(self, code)", "__eq__(self, other)",
+                 "sure(self, since)", "back(self, *, many=1)", "copy(self)", "trial(self)"),
+    "Desk": ("say(self, line)",),
+}
+PROPERTIES = {"Receiver": ("screen", "begin", "state", "codes", "picture"), "Desk": ("cues", "stream")}
 PACKAGE = Path(__file__).resolve().parent.parent / "captionhouse"
 
 
@@ -63,6 +82,16 @@ class Interface(unittest.TestCase):
         for module, classes in CLASSES.items():
             for told in classes:
                 self.look(module, told, True)
+
+    def test_methods_stand_in_their_classes(self):
+        for module, name in (("receivers", "Receiver"), ("desk", "Desk")):
+            inside = vars(getattr(importlib.import_module("captionhouse." + module), name))
+            for told in METHODS[name]:
+                method = told.partition("(")[0]
+                self.assertEqual(method + str(inspect.signature(inside[method])), told)
+            for told in PROPERTIES[name]:
+                self.assertIsInstance(inside[told], property)
+                self.assertIsNone(inside[told].fset)
 
     def test_the_files_are_as_long_and_wide_as_they_may_be(self):
         for path in PACKAGE.glob("*.py"):

@@ -24,6 +24,10 @@ SCREEN = (2, 3)
 STATE = ("paint", 1, 2, ("abc", "def"), ("   ", "xyz"))
 CODES = (("put", "a"), ("swap",), ("roll", 2), ("line",), ("at", 0, 2), ("put", "x"))
 RING = (("wipe",), ("put", "a"))
+CHOICE = (("put", "a"), ("swap",), ("wipe",))
+CHANNELS = ((("put", "a"), ("swap",)), (("put", "b"), ("idle",)))
+CUES = ((7, 9, ("a", "b")), (14, 20, ("c",)))
+NEAR = ((4, 9, ("a", "b")), (12, 20, ("c",)))
 
 # For each function some arguments; those that are results of another function are told by its name.
 CALLS = {
@@ -71,6 +75,27 @@ CALLS = {
     "tuning": {"sure": [(SCREEN, CODES)], "settled": [(SCREEN, CODES, RING, 3)],
                "settle_paper": [(SCREEN, CODES, RING, 3)],
                "check_settle": [(SCREEN, CODES, RING, 3, "settle_paper"), (SCREEN, CODES, RING, 3, 0)]},
+    "waking": {"knowledge": [(SCREEN, CODES)], "later": [(SCREEN, "knowledge", ("line",)), (SCREEN, 0, 0)],
+               "waking": [(SCREEN, CHOICE), (SCREEN, CHOICE[:1]), (SCREEN, CHOICE[::-1])],
+               "waking_paper": [(SCREEN, CHOICE), (SCREEN, CHOICE[:1])],
+               "check_waking": [(SCREEN, CHOICE, "waking_paper"), (SCREEN, CHOICE[:1], "waking_paper"),
+                                (SCREEN, CHOICE, 0)]},
+    "zaps": {"good": [(SCREEN, CHANNELS)], "zapped": [(SCREEN, CHANNELS, (1, 0, 0)), (SCREEN, CHANNELS, (2,))],
+             "zap_paper": [(SCREEN, CHANNELS), (SCREEN, CHANNELS[1:])],
+             "check_zap": [(SCREEN, CHANNELS, "zap_paper"), (SCREEN, CHANNELS[1:], "zap_paper"),
+                           (SCREEN, CHANNELS, 0)]},
+    "losses": {"fair": [(SCREEN, CODES)], "loss_paper": [(SCREEN, CODES, 1), (SCREEN, CODES[:1], 1)],
+               "check_loss": [(SCREEN, CODES, 1, "loss_paper"), (SCREEN, CODES[:1], 1, "loss_paper"),
+                              (SCREEN, CODES, 1, 0)],
+               "least_loss": [(SCREEN, CODES)]},
+    "sending": {"load": [(SCREEN, ("a", "bc")), (SCREEN, ())], "picture_of": [(SCREEN, ("a", "bc"))],
+                "text_of": [(SCREEN, STATE[3]), (SCREEN, STATE[4]), (SCREEN, 0)],
+                "send_paper": [(SCREEN, CUES), (SCREEN, NEAR), (SCREEN, CUES[::-1])],
+                "check_send": [(SCREEN, CUES, "send_paper"), (SCREEN, NEAR, "send_paper"), (SCREEN, CUES, 0)],
+                "put_off": [(SCREEN, CUES), (SCREEN, NEAR)], "shows": [(SCREEN, CODES)]},
+    "receivers": {"under": [(0, len)]},
+    "tapes": {"stream_text": [(SCREEN, CODES), (SCREEN, (0,))],
+              "read_stream": [(SCREEN, "put a\nidle"), (SCREEN, "idle\nput")]},
 }
 
 
@@ -89,14 +114,15 @@ class Calls(unittest.TestCase):
     def all_calls(self):
         for module, functions in CALLS.items():
             functions_of = vars(importlib.import_module("captionhouse." + module))
-            for name, told in functions.items():
-                for things in told:
+            for name, all_things in functions.items():
+                for things in all_things:
                     ahead = [thing for thing in things if not (isinstance(thing, str) and thing in functions_of)]
                     made = []
                     for thing in things:
                         if isinstance(thing, str) and thing in functions_of:
                             many = len(inspect.signature(functions_of[thing]).parameters)
-                            thing = functions_of[thing](*([SCREEN, CODES] if thing == "summary" else ahead[:many]))
+                            told = [SCREEN, CODES] if thing in ("summary", "knowledge") else ahead[:many]
+                            thing = functions_of[thing](*told)
                         made.append(thing)
                     yield functions_of[name], made
 
